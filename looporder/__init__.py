@@ -1,0 +1,1 @@
+"""Shortest ways by loops in the wrong order."""
