@@ -12,7 +12,7 @@ def web_of_edges(size, edges):
         raise InvalidSize(size)
     if not isinstance(edges, list):
         raise InvalidEdges(None)
-    web = [[0 if x == y else None for y in range(size)] for x in range(size)]
+    web = _bare_web(size)
     for index, thing in enumerate(edges):
         if not _is_measured_edge(thing, size):
             raise InvalidEdges(index)
@@ -21,6 +21,11 @@ def web_of_edges(size, edges):
             raise InvalidEdges(index)
         web[x][y] = length
     return web
+
+
+def _bare_web(size):
+    """Return the web of so many places that has no edges."""
+    return [[0 if x == y else None for y in range(size)] for x in range(size)]
 
 
 def _is_measured_edge(thing, size):
@@ -54,7 +59,7 @@ def renumbered(web, numbering):
     check_web(web)
     check_order(web, numbering)
     places = range(len(web))
-    renewed = [[0 if x == y else None for y in places] for x in places]
+    renewed = _bare_web(len(web))
     for x in places:
         for y in places:
             renewed[numbering[x]][numbering[y]] = web[x][y]
