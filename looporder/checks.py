@@ -1,6 +1,8 @@
 """What several modules ask about arguments: kinds of values, places, edges and lists of them."""
 
-from looporder.errors import InvalidOrder, InvalidWalk, InvalidWeb, UnknownPlace
+from looporder.errors import InvalidEdges, InvalidNumber, InvalidOrder, InvalidWalk, InvalidWeb, UnknownPlace
+
+MOST_ROUNDS = 60
 
 
 def is_whole(thing):
@@ -16,6 +18,14 @@ def is_place(thing, size):
 def has_edge(web, x, y):
     """Tell whether an edge of the web leads from the place x to the place y."""
     return x != y and web[x][y] is not None
+
+
+def is_edge(web, thing):
+    """Tell whether a thing is a tuple of two places that are joined by an edge of the web."""
+    if not isinstance(thing, tuple) or len(thing) != 2:
+        return False
+    x, y = thing
+    return is_place(x, len(web)) and is_place(y, len(web)) and has_edge(web, x, y)
 
 
 def check_web(web):
@@ -46,6 +56,15 @@ def check_place(web, thing):
         raise UnknownPlace(thing)
 
 
+def check_edges(web, edges):
+    """Raise InvalidEdges if this is not a list of edges of the web; an edge may stand in it again."""
+    if not isinstance(edges, list):
+        raise InvalidEdges(None)
+    for index, thing in enumerate(edges):
+        if not is_edge(web, thing):
+            raise InvalidEdges(index)
+
+
 def check_walk(web, walk):
     """Raise InvalidWalk if this is not a walk of the web."""
     if not isinstance(walk, list) or not walk:
@@ -64,3 +83,9 @@ def check_order(web, order):
     for index, place in enumerate(order):
         if not is_place(place, len(web)) or place in order[:index]:
             raise InvalidOrder(index)
+
+
+def check_number(thing):
+    """Raise InvalidNumber if a thing is not a whole number from 0 to the most rounds and passes."""
+    if not is_whole(thing) or not 0 <= thing <= MOST_ROUNDS:
+        raise InvalidNumber(thing)

@@ -19,13 +19,23 @@ def shortest_way(web, x, y):
     check_sound(web)
     check_place(web, x)
     check_place(web, y)
-    values = values_from(web, x)
+    return ways_from(web, x)[y]
+
+
+def ways_from(web, source):
+    """Return a list with a shortest way from the source to each place, or None where no walk leads.
+
+    A way to a place begins with the listed ways to all places on it, so that the ways form a tree.
+    """
+    values = values_from(web, source)
     before, _ = settle(web, values)
-    if values[y] is None:
-        return None
+    return [None if value is None else _way_back(before, place) for place, value in enumerate(values)]
+
+
+def _way_back(before, place):
     # No place stands twice here, even with rings of length 0: values are lowered to lesser ones only.
-    way = [y]
-    while way[-1] != x:
+    way = [place]
+    while before[way[-1]] is not None:
         way.append(before[way[-1]])
     return way[::-1]
 

@@ -1,7 +1,7 @@
 """Webs: building and changing them, their soundness, and their distances."""
 
 from looporder.checks import check_order, check_web, has_edge, is_place, is_whole
-from looporder.errors import InvalidEdges, InvalidSize, LowRing
+from looporder.errors import InvalidEdges, InvalidSize, LowRing, NotSingle
 
 MOST_PLACES = 8
 
@@ -108,13 +108,23 @@ def settle(web, values):
     for _ in web:
         last = None
         for x, y in edges:
-            if values[x] is not None and (values[y] is None or values[y] > values[x] + web[x][y]):
-                values[y] = values[x] + web[x][y]
+            if lower_along(web, values, x, y):
                 before[y] = x
                 last = y
         if last is None:
             break
     return before, last
+
+
+def lower_along(web, values, x, y):
+    """Lower the value of y, in place, if the edge from x to y makes it less, and tell whether it does."""
+    if values[x] is None:
+        return False
+    total = values[x] + web[x][y]
+    if values[y] is not None and values[y] <= total:
+        return False
+    values[y] = total
+    return True
 
 
 def values_from(web, source):
@@ -140,6 +150,17 @@ def _list_distances(web):
 def is_single(web):
     """Tell whether a sound web is single."""
     check_sound(web)
+    return _has_single_ways(web)
+
+
+def check_single(web):
+    """Raise InvalidWeb if this is not a web, LowRing if it is not sound, or NotSingle if it is not single."""
+    check_sound(web)
+    if not _has_single_ways(web):
+        raise NotSingle("the web has two shortest ways or a ring of length 0")
+
+
+def _has_single_ways(web):
     table = _list_distances(web)
     return not _has_zero_ring(web, table) and not _has_two_shortest_ways(web, table)
 

@@ -4,7 +4,7 @@ import copy
 import itertools
 import unittest
 
-from looporder.errors import InvalidWeb, LowRing
+from looporder.errors import InvalidWeb, LowRing, NotSingle
 
 FAR = 999_999_999_999
 
@@ -21,6 +21,9 @@ class NoPlace:
 
 # No lists, no whole numbers, and no tuples of three things: wrong for each argument and each thing in one.
 ODD_THINGS = [None, True, False, 0.0, 1.5, "", "kij", b"", (), {}, set(), object, NoPlace()]
+
+# No whole numbers, whatever they are needed for.
+NO_WHOLE_NUMBERS = [*ODD_THINGS, [], [0], "0", 1.0]
 
 # Each pair: something that is no web, and the field of InvalidWeb.
 WRONG_WEBS = [(thing, None) for thing in [*ODD_THINGS, 0, 3, -1]] + [
@@ -71,6 +74,16 @@ LOW_WEBS = [
     [[0, 9, 9, None], [9, 0, 9, None], [9, 9, 0, 1], [-20, None, None, 0]],
 ]
 
+# Sound webs that are not single: rings of length 0, and two shortest ways, also out of reach of the place 0.
+TWOFOLD_WEBS = [
+    [[0, 0], [0, 0]],
+    [[0, 3], [-3, 0]],
+    [[0, 1, None], [None, 0, 1], [-2, None, 0]],
+    [[0, 1, 2], [None, 0, 1], [None, None, 0]],
+    [[0, 1, None, None], [None, 0, None, None], [None, None, 0, FAR], [None, None, -FAR, 0]],
+    [[0, None, None, None], [None, 0, 1, 1], [None, None, 0, 0], [None, None, None, 0]],
+]
+
 
 def full_web(size, length=1):
     """A web with all edges, all of one length."""
@@ -104,12 +117,30 @@ def every_web(size, lengths):
 
 def mixed_webs(size, many, lengths, seed=1):
     """So many webs with things from `lengths` between different places, the same ones in each run."""
+    numbers = mixed_numbers(seed)
     for _ in range(many):
         web = full_web(size)
         for x, y in itertools.permutations(range(size), 2):
-            seed = (seed * 6364136223846793005 + 1442695040888963407) % 2**64
-            web[x][y] = lengths[(seed >> 33) % len(lengths)]
+            web[x][y] = lengths[next(numbers) % len(lengths)]
         yield web
+
+
+def mixed_numbers(seed=1):
+    """Numbers in no plain order, the same ones in each run."""
+    while True:
+        seed = (seed * 6364136223846793005 + 1442695040888963407) % 2**64
+        yield seed >> 33
+
+
+def mixed_order(things, numbers):
+    """The things in no plain order."""
+    left = list(things)
+    return [left.pop(next(numbers) % len(left)) for _ in things]
+
+
+def mixed_choice(things, many, numbers):
+    """So many of the things, some perhaps several times; none if there are no things."""
+    return [things[next(numbers) % len(things)] for _ in range(many if things else 0)]
 
 
 def small_webs():
@@ -136,6 +167,26 @@ def large_sound_webs():
     yield [[0 if x == y else 10 * x - 9 * y + 8 * 9 for y in range(8)] for x in range(8)]
     yield [[0 if x == y else -FAR if x < y else None for y in range(8)] for x in range(8)]
     yield [[0 if x == y else 2**x if x > y else None for y in range(8)] for x in range(8)]
+
+
+def all_edges(web):
+    """All edges of a web, in ascending order."""
+    return [(x, y) for x, y in itertools.permutations(range(len(web)), 2) if web[x][y] is not None]
+
+
+def has_low_ring(web):
+    """Whether some ring of a web of a few places has a length below 0."""
+    return min(slow_ring_lengths(web, slow_ways(web)), default=0) < 0
+
+
+def sound_webs(webs):
+    """Those of the webs that are sound."""
+    return [web for web in webs if not has_low_ring(web)]
+
+
+def single_webs(webs):
+    """Those of the webs that are single."""
+    return [web for web in sound_webs(webs) if slow_is_single(web, slow_ways(web))]
 
 
 def is_joined(web, places):
@@ -179,6 +230,52 @@ def slow_is_single(web, ways):
         if lengths.count(lengths[0]) > 1:
             return False
     return True
+
+
+def slow_distances(web):
+    """The table of the distances of a sound web, from all ways."""
+    lengths = slow_lengths(web, slow_ways(web))
+    places = range(len(web))
+    return [[lengths.get((x, y), [None])[0] for y in places] for x in places]
+
+
+def slow_values(web, edges, source, rounds):
+    """The values after so many rounds, edge by edge."""
+    values = [None] * len(web)
+    values[source] = 0
+    for x, y in edges * rounds:
+        if values[x] is not None:
+            total = values[x] + web[x][y]
+            values[y] = total if values[y] is None else min(values[y], total)
+    return values
+
+
+def serves(web, edges, sources, table):
+    """Whether one round over the edges is enough from each of these sources, by the table of the distances."""
+    return all(slow_values(web, edges, source, 1) == table[source] for source in sources)
+
+
+def edges_on_way(way):
+    """The edges of a way or a walk."""
+    return list(zip(way, way[1:]))
+
+
+def rises(edges, part):
+    """Whether these edges occur in the list one after the other, by all choices of so many of its things."""
+    return tuple(part) in itertools.combinations(edges, len(part))
+
+
+def slow_runs(edges, walk):
+    """The runs of a walk in a list, by all ways to cut it, or None."""
+    steps = edges_on_way(walk)
+    if not steps:
+        return 0
+    for many in range(len(steps)):
+        for cuts in itertools.combinations(range(1, len(steps)), many):
+            ends = [0, *cuts, len(steps)]
+            if all(rises(edges, steps[start:end]) for start, end in zip(ends, ends[1:])):
+                return many + 1
+    return None
 
 
 def lists_in(thing):
@@ -229,6 +326,21 @@ class WatchedCase(unittest.TestCase):
             with self.assertRaises(LowRing) as caught:
                 function(web, *others)
             self.assert_low_ring(web, caught.exception.ring)
+
+    def assert_twofold_webs(self, function, *others):
+        """Fail unless NotSingle, which has no fields, is raised for each sound web that is not single."""
+        for web in TWOFOLD_WEBS:
+            with self.assertRaises(NotSingle) as caught:
+                function(web, *others)
+            self.assertIs(NotSingle, caught.exception.__class__)
+            self.assertEqual({}, vars(caught.exception))
+
+    def assert_plain(self, web, edges):
+        """Fail unless this is a list with each edge of the web exactly once."""
+        self.assertIsInstance(edges, list)
+        for edge in edges:
+            self.assertEqual([tuple, int, int], [edge.__class__, *[place.__class__ for place in edge]])
+        self.assertEqual(all_edges(web), sorted(edges))
 
     def assert_low_ring(self, web, ring):
         """Fail unless this is a ring of the web with a length below 0."""

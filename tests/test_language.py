@@ -17,6 +17,22 @@ INTERFACE = {
         ("renumbered", ["web", "numbering"]), ("low_ring", ["web"]), ("distances", ["web"]), ("is_single", ["web"]),
     ],
     "walks.py": [("length_of", ["web", "walk"]), ("shortest_way", ["web", "x", "y"]), ("each_way", ["web"])],
+    "rounds.py": [
+        ("values_after", ["web", "edges", "source", "rounds"]), ("runs", ["web", "edges", "walk"]),
+        ("pieces", ["web", "edges", "walk"]), ("walk_within", ["web", "edges", "source", "place", "rounds"]),
+        ("fewest_runs", ["web", "edges", "source"]), ("rounds_needed", ["web", "edges", "source"]),
+        ("rounds_for_all", ["web", "edges"]),
+    ],
+    "orders.py": [
+        ("count_lists", ["many", "number"]), ("halved_list", ["web", "order"]), ("list_for", ["web", "source"]),
+        ("count_lists_for", ["web", "source"]), ("list_for_all", ["web"]), ("ring_of_edges", ["web"]),
+        ("list_whatever", ["web"]),
+    ],
+    "moves.py": [
+        ("fewest_moved", ["web", "edges", "source"]), ("turned_rows", ["web", "edges", "source"]),
+        ("are_turned_rows", ["web", "edges", "source", "thing"]),
+    ],
+    "passes.py": [("table_after", ["web", "loops", "passes"]), ("passes_needed", ["web", "loops"])],
 }
 
 
@@ -57,6 +73,11 @@ class LanguageTest(unittest.TestCase):
                     self.assertEqual(("looporder", 0), (package, node.level), name)
                     defined = {part.name for part in self.trees[module + ".py"].body if hasattr(part, "name")}
                     self.assertLessEqual({part.name for part in node.names}, defined, name)
+
+    def test_the_names_of_the_loops_stand_in_their_file(self):
+        for name, tree in self.trees.items():
+            assigned = [part.id for node in tree.body if isinstance(node, ast.Assign) for part in node.targets]
+            self.assertEqual(name == "passes.py", "LOOPS" in assigned, name)
 
     def test_the_interface_is_defined_in_its_files(self):
         for name, expected in INTERFACE.items():

@@ -4,9 +4,7 @@ from looporder.errors import InvalidEdges, InvalidOrder, InvalidSize, InvalidWal
 from looporder.walks import each_way, length_of, shortest_way
 from looporder.webs import distances, edges_of, is_single, low_ring, renumbered, turned_web, web_of_edges
 from tests import helper
-from tests.helper import FAR, LOW_WEBS, ODD_THINGS, NoPlace, bare_web, full_web, line_web
-
-NO_WHOLE_NUMBERS = [*ODD_THINGS, [], [0], "0", 1.0]
+from tests.helper import FAR, LOW_WEBS, NO_WHOLE_NUMBERS, ODD_THINGS, NoPlace, bare_web, full_web, line_web
 
 
 def first_way(web):
