@@ -14,9 +14,9 @@ def table_after(web, loops, passes):
     check_loops(loops)
     check_number(passes)
     table = [list(row) for row in web]
-    steps = _steps_of(len(web), loops)
+    steps = steps_of(len(web), loops)
     for _ in range(passes):
-        _go_pass(table, steps)
+        go_pass(table, steps)
     return table
 
 
@@ -26,11 +26,11 @@ def passes_needed(web, loops):
     check_loops(loops)
     goal = distances(web)
     table = [list(row) for row in web]
-    steps = _steps_of(len(web), loops)
+    steps = steps_of(len(web), loops)
     many = 0
     # This ends, since three passes are enough for every sound web.
     while table != goal:
-        _go_pass(table, steps)
+        go_pass(table, steps)
         many += 1
     return many
 
@@ -41,7 +41,7 @@ def check_loops(thing):
         raise UnknownLoops(thing)
 
 
-def _steps_of(size, loops):
+def steps_of(size, loops):
     """Return the list of all (i, j, k) in the order in which a pass goes through them."""
     places = range(size)
     steps = []
@@ -53,10 +53,13 @@ def _steps_of(size, loops):
     return steps
 
 
-def _go_pass(table, steps):
-    """Go through one pass and lower the table, in place."""
+def go_pass(table, steps):
+    """Go through one pass and lower the table, in place; tell whether it changes."""
+    changed = False
     for i, j, k in steps:
         if table[i][k] is not None and table[k][j] is not None:
             total = table[i][k] + table[k][j]
             if table[i][j] is None or table[i][j] > total:
                 table[i][j] = total
+                changed = True
+    return changed

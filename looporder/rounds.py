@@ -12,14 +12,17 @@ def values_after(web, edges, source, rounds):
     check_number(rounds)
     values = values_from(web, source)
     for _ in range(rounds):
-        _go_round(web, edges, values)
+        go_round(web, edges, values)
     return values
 
 
-def _go_round(web, edges, values):
-    """Go through one round over a list of edges and lower the values, in place."""
+def go_round(web, edges, values):
+    """Go through one round over a list of edges and lower the values, in place; tell whether one changes."""
+    changed = False
     for x, y in edges:
-        lower_along(web, values, x, y)
+        if lower_along(web, values, x, y):
+            changed = True
+    return changed
 
 
 def runs(web, edges, walk):
@@ -106,7 +109,7 @@ def fewest_runs(web, edges, source):
         for place, value in enumerate(values):
             if fewest[place] is None and value is not None and value == goals[place]:
                 fewest[place] = rounds
-        _go_round(web, edges, values)
+        go_round(web, edges, values)
     return fewest
 
 
@@ -132,5 +135,5 @@ def _count_rounds(web, edges, source, goals):
     for rounds in range(len(web)):
         if values == goals:
             return rounds
-        _go_round(web, edges, values)
+        go_round(web, edges, values)
     return None

@@ -1,12 +1,14 @@
 """What the tests share: slow searches, webs to search, and calls that are watched."""
 
 import copy
+import functools
 import itertools
 import unittest
 
 from looporder.errors import InvalidWeb, LowRing, NotSingle
 
 FAR = 999_999_999_999
+NAMES = ["kij", "kji", "ikj", "jki", "ijk", "jik"]
 
 
 class NoPlace:
@@ -276,6 +278,92 @@ def slow_runs(edges, walk):
             if all(rises(edges, steps[start:end]) for start, end in zip(ends, ends[1:])):
                 return many + 1
     return None
+
+
+def loops_of_kij(places):
+    for k in places:
+        for i in places:
+            for j in places:
+                yield i, j, k
+
+
+def loops_of_kji(places):
+    for k in places:
+        for j in places:
+            for i in places:
+                yield i, j, k
+
+
+def loops_of_ikj(places):
+    for i in places:
+        for k in places:
+            for j in places:
+                yield i, j, k
+
+
+def loops_of_jki(places):
+    for j in places:
+        for k in places:
+            for i in places:
+                yield i, j, k
+
+
+def loops_of_ijk(places):
+    for i in places:
+        for j in places:
+            for k in places:
+                yield i, j, k
+
+
+def loops_of_jik(places):
+    for j in places:
+        for i in places:
+            for k in places:
+                yield i, j, k
+
+
+WRITTEN = {
+    "kij": loops_of_kij, "kji": loops_of_kji, "ikj": loops_of_ikj,
+    "jki": loops_of_jki, "ijk": loops_of_ijk, "jik": loops_of_jik,
+}
+
+
+def slow_tables(web, loops, most):
+    """The tables after 0 to so many passes, by the loops as they are written out."""
+    table = [list(row) for row in web]
+    yield [list(row) for row in table]
+    for _ in range(most):
+        for i, j, k in WRITTEN[loops](range(len(web))):
+            first, second = table[i][k], table[k][j]
+            if first is not None and second is not None:
+                if table[i][j] is None or table[i][j] > first + second:
+                    table[i][j] = first + second
+        yield [list(row) for row in table]
+
+
+def web_of_way(way, length=1):
+    """The web whose only edges are those of a way through all its places."""
+    web = bare_web(len(way))
+    for x, y in edges_on_way(way):
+        web[x][y] = length
+    return web
+
+
+def in_small_numbers(way):
+    """The way with the numbers from 0 on in the same order."""
+    return [sorted(way).index(number) for number in way]
+
+
+def slow_passes(way, loops, length=1):
+    """The least number of passes that see a way, by the loops in the web that has its edges only."""
+    return passes_gone_through(tuple(in_small_numbers(way)), loops, length)
+
+
+@functools.cache
+def passes_gone_through(way, loops, length):
+    """The number of passes after which the table has a number for the ends of a way through all its places."""
+    tables = slow_tables(web_of_way(way, length), loops, 8)
+    return next(passes for passes, table in enumerate(tables) if table[way[0]][way[-1]] is not None)
 
 
 def lists_in(thing):

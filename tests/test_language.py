@@ -33,7 +33,29 @@ INTERFACE = {
         ("are_turned_rows", ["web", "edges", "source", "thing"]),
     ],
     "passes.py": [("table_after", ["web", "loops", "passes"]), ("passes_needed", ["web", "loops"])],
+    "seen.py": [
+        ("is_seen", ["way", "loops", "passes"]), ("passes_for", ["way", "loops"]),
+        ("unseen_way", ["web", "loops", "passes"]), ("count_seen", ["size", "loops", "passes"]),
+    ],
+    "numberings.py": [("falling_numbering", ["web"]), ("good_numbering", ["web", "loops"])],
+    "kinds.py": [("Rounds", None), ("Passes", None)],
+    "text.py": [
+        ("format_web", ["web"]), ("parse_web", ["text"]), ("format_edges", ["web", "edges"]),
+        ("parse_edges", ["web", "text"]),
+    ],
 }
+
+# For each class with methods: their arguments; and the properties.
+METHODS = {
+    "Rounds": {"__init__": ["self", "web", "edges", "source"], "go": ["self"], "finish": ["self"]},
+    "Passes": {"__init__": ["self", "web", "loops"], "go": ["self"], "is_right": ["self"]},
+}
+PROPERTIES = {
+    "Rounds": ["web", "edges", "source", "numbers", "many"],
+    "Passes": ["web", "loops", "table", "many"],
+}
+# What may be imported from outside the package.
+LIBRARY = {"itertools": {"combinations", "permutations"}}
 
 
 def read_files():
@@ -68,7 +90,9 @@ class LanguageTest(unittest.TestCase):
         for name, tree in self.trees.items():
             for node in ast.walk(tree):
                 self.assertNotIsInstance(node, ast.Import, name)
-                if isinstance(node, ast.ImportFrom):
+                if isinstance(node, ast.ImportFrom) and node.module in LIBRARY:
+                    self.assertLessEqual({part.name for part in node.names}, LIBRARY[node.module], name)
+                elif isinstance(node, ast.ImportFrom):
                     package, _, module = node.module.partition(".")
                     self.assertEqual(("looporder", 0), (package, node.level), name)
                     defined = {part.name for part in self.trees[module + ".py"].body if hasattr(part, "name")}
@@ -90,3 +114,12 @@ class LanguageTest(unittest.TestCase):
             for thing, arguments in expected:
                 self.assertIn(thing, found)
                 self.assertEqual(arguments, found[thing])
+
+    def test_methods_and_properties_stand_in_their_classes(self):
+        for node in self.trees["kinds.py"].body:
+            if isinstance(node, ast.ClassDef):
+                parts = [part for part in node.body if isinstance(part, ast.FunctionDef)]
+                plain = {part.name: [one.arg for one in part.args.args] for part in parts if not part.decorator_list}
+                self.assertEqual(METHODS[node.name], plain)
+                decorated = {part.name: [one.id for one in part.decorator_list] for part in parts if part.decorator_list}
+                self.assertEqual({name: ["property"] for name in PROPERTIES[node.name]}, decorated)

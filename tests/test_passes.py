@@ -5,77 +5,10 @@ import itertools
 from looporder.passes import LOOPS, passes_needed, table_after
 from looporder.webs import distances, turned_web, web_of_edges
 from tests import helper
-from tests.helper import FAR, bare_web, full_web, line_web, ring_web
+from tests.helper import FAR, NAMES, bare_web, full_web, line_web, ring_web, slow_tables, web_of_way
 
 WEB = [[0, None, 1, 9], [None, 0, None, 1], [None, 1, 0, None], [None, None, None, 0]]
-NAMES = ["kij", "kji", "ikj", "jki", "ijk", "jik"]
 FEWEST = {"kij": 1, "kji": 1, "ikj": 2, "jki": 2, "ijk": 3, "jik": 3}
-
-
-def loops_of_kij(places):
-    for k in places:
-        for i in places:
-            for j in places:
-                yield i, j, k
-
-
-def loops_of_kji(places):
-    for k in places:
-        for j in places:
-            for i in places:
-                yield i, j, k
-
-
-def loops_of_ikj(places):
-    for i in places:
-        for k in places:
-            for j in places:
-                yield i, j, k
-
-
-def loops_of_jki(places):
-    for j in places:
-        for k in places:
-            for i in places:
-                yield i, j, k
-
-
-def loops_of_ijk(places):
-    for i in places:
-        for j in places:
-            for k in places:
-                yield i, j, k
-
-
-def loops_of_jik(places):
-    for j in places:
-        for i in places:
-            for k in places:
-                yield i, j, k
-
-
-WRITTEN = {
-    "kij": loops_of_kij, "kji": loops_of_kji, "ikj": loops_of_ikj,
-    "jki": loops_of_jki, "ijk": loops_of_ijk, "jik": loops_of_jik,
-}
-
-
-def slow_tables(web, loops, most):
-    """The tables after 0 to so many passes, by the loops as they are written out."""
-    table = [list(row) for row in web]
-    yield [list(row) for row in table]
-    for _ in range(most):
-        for i, j, k in WRITTEN[loops](range(len(web))):
-            first, second = table[i][k], table[k][j]
-            if first is not None and second is not None:
-                if table[i][j] is None or table[i][j] > first + second:
-                    table[i][j] = first + second
-        yield [list(row) for row in table]
-
-
-def web_of_way(way, length=1):
-    """The web of eight places or fewer whose only edges are those of a way."""
-    return web_of_edges(len(way), [(x, y, length) for x, y in helper.edges_on_way(way)])
 
 
 def some_webs():
